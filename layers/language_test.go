@@ -53,7 +53,7 @@ func TestMayImport(t *testing.T) {
 	}
 }
 
-func TestLayersKeepToTheLanguage(t *testing.T) {
+func TestImportsAndLayout(t *testing.T) {
 	for _, name := range layerNames {
 		files, err := os.ReadDir(filepath.Join("..", name))
 		if err != nil {
